@@ -1,0 +1,51 @@
+"""Point 28: the interface, as far as it has landed."""
+
+from importlib import import_module
+from inspect import isclass, isfunction, signature
+from unittest import TestCase
+
+from tests.samples import leader
+
+FUNCTIONS = {
+    "tasks": {
+        "inputs_of": ["task"], "rests": ["task"], "completing": ["task", "rest"], "lot_of": ["task", "inputs"],
+        "rest_of": ["row", "i"], "put_in": ["rest", "value"],
+    },
+    "lots": {"parts": ["lot"], "way": ["lot", "one", "other"]},
+    "plans": {
+        "is_choice": ["task", "thing"], "is_plan": ["task", "thing"], "covers": ["task", "choice", "rest"],
+        "choices": ["task"], "plan": ["task"],
+    },
+}
+CLASSES = {"tasks": {"Task": (["many", "lots"], ["__eq__"])}}
+
+
+class Interface(TestCase):
+    def test_functions_stand_in_their_files(self):
+        for file, functions in FUNCTIONS.items():
+            module = import_module("onesilent." + file)
+            for name, names in functions.items():
+                function = getattr(module, name)
+                self.assertTrue(isfunction(function), name)
+                self.assertEqual(function.__module__, "onesilent." + file)
+                self.assertEqual(list(signature(function).parameters), names)
+
+    def test_classes_stand_in_their_files_with_their_methods(self):
+        for file, classes in CLASSES.items():
+            module = import_module("onesilent." + file)
+            for name, (names, methods) in classes.items():
+                made = getattr(module, name)
+                self.assertTrue(isclass(made), name)
+                self.assertEqual(made.__module__, "onesilent." + file)
+                self.assertEqual(list(signature(made).parameters), names)
+                for method in methods:
+                    self.assertIn(method, vars(made))
+
+    def test_errors_stand_in_their_file(self):
+        module = import_module("onesilent.errors")
+        for name, value in vars(module).items():
+            if isclass(value):
+                self.assertEqual(value.__module__, "onesilent.errors", name)
+
+    def test_attributes_are_set_on_each_object(self):
+        self.assertEqual(sorted(vars(leader())), ["lots", "many"])
