@@ -8,13 +8,13 @@ def parts(lot):
     """List the parts of a lot, ascending."""
     if not _is_lot(lot):
         raise NoLot()
-    lines = _lines(lot)
+    lines = lines_of(lot)
     found = []
     placed = {}
     for row in lot:
         # The first row met of a part is its least one, so the parts come ascending.
         if row not in placed:
-            part = tuple(sorted(_steps_from(row, lines)))
+            part = tuple(sorted(steps_from([row], lines)))
             found.append(part)
             for member in part:
                 placed[member] = True
@@ -25,11 +25,11 @@ def way(lot, one, other):
     """Tell the least of the shortest ways from one row to the other within the lot, or None."""
     if not _is_lot(lot):
         raise NoLot()
-    lines = _lines(lot)
+    lines = lines_of(lot)
     for end in (one, other):
         if not is_row(end) or end not in lot:
             raise NoRow()
-    steps = _steps_from(other, lines)
+    steps = steps_from([other], lines)
     if one not in steps:
         return None
     rows = [one]
@@ -47,8 +47,8 @@ def _is_lot(thing):
     return all([len(row) == len(thing[0]) for row in thing]) and is_ascending(thing)
 
 
-def _lines(lot):
-    """Tell for each rest of the rows which rows have it: any two of them are neighbours."""
+def lines_of(lot):
+    """Tell for each rest of the rows which of them have it: any two of these are neighbours."""
     lines = {}
     for row in lot:
         for i in range(len(row)):
@@ -61,11 +61,11 @@ def _neighbours(row, lines):
     return [other for i in range(len(row)) for other in lines[without(row, i)] if other != row]
 
 
-def _steps_from(start, lines):
-    """Tell for each row that start leads to the fewest steps to it."""
-    steps = {start: 0}
+def steps_from(starts, lines):
+    """Tell for each row that some of these rows lead to the fewest steps to it."""
+    steps = {row: 0 for row in starts}
     gone = {}
-    level = [start]
+    level = list(starts)
     while level:
         reached = []
         for row in level:

@@ -1,4 +1,6 @@
-"""What several files judge values by: integers, rows, rests and lots."""
+"""What several files judge values by: integers, rows, rests, lots and patterns; and what they count with."""
+
+MOST_ROUNDS = 30
 
 
 def is_integer(thing):
@@ -28,6 +30,18 @@ def is_rest(thing, least, most):
     return is_number(thing[0], 0, len(thing[1]))
 
 
+def is_turn(thing, many):
+    """Tell whether a thing is what each machine misses in one round: None, or the number of another one."""
+    if not isinstance(thing, tuple) or len(thing) != many:
+        return False
+    return all([missed is None or _is_other(missed, me, many) for me, missed in enumerate(thing)])
+
+
+def _is_other(thing, me, many):
+    """Tell whether a thing is the number of a machine other than this one."""
+    return is_number(thing, 0, many - 1) and thing != me
+
+
 def is_ascending(things):
     """Tell whether each thing is less than the next one."""
     return all([one < other for one, other in zip(things, things[1:])])
@@ -36,3 +50,20 @@ def is_ascending(things):
 def without(row, i):
     """Tell the rest of a row without its place i, unchecked."""
     return (i, row[:i] + row[i + 1:])
+
+
+def power(base, times):
+    """Tell the base multiplied by itself so many times."""
+    worth = 1
+    for _ in range(times):
+        worth = worth * base
+    return worth
+
+
+def figures_of(number, base, many):
+    """List so many figures of a number to a base, the first one worth most."""
+    figures = []
+    for _ in range(many):
+        number, figure = divmod(number, base)
+        figures.append(figure)
+    return figures[::-1]

@@ -3,6 +3,7 @@
 from itertools import product
 
 from onesilent.errors import NoRow, NoName, SilentError
+from onesilent.folks import Folk
 from onesilent.tasks import Task
 
 
@@ -23,6 +24,40 @@ def agreement(many, values):
     """All answer one value that stands in the inputs."""
     rows = product(range(values), repeat=many)
     return task_of(many, {row: [(value,) * many for value in sorted(set(row))] for row in rows})
+
+
+def few(many, values, most):
+    """All answer values that stand in the inputs, no more than so many unlike ones."""
+    return wide(many, {row: [answer for answer in product(sorted(set(row)), repeat=many) if len(set(answer)) <= most]
+                       for row in product(range(values), repeat=many)})
+
+
+def near(many, values):
+    """All answer between the least and the greatest of the inputs, no two further apart than 1."""
+    return wide(many, {row: [answer for answer in product(range(min(row), max(row) + 1), repeat=many)
+                             if max(answer) - min(answer) <= 1] for row in product(range(values), repeat=many)})
+
+
+def climb(many, steps):
+    """Rows each of which is one more than the one ahead in the next place: a way of so many steps."""
+    return [tuple((k + many - 1 - place) // many for place in range(many)) for k in range(steps + 1)]
+
+
+def climbing(many, steps):
+    """Two inputs unlike in the first place: what the last machine and one of the others knows bars the rest of a way.
+
+    The least row is let for the one, the whole way for the other one and the greatest row for a third one."""
+    rows = climb(many, steps)
+    zeros = (0,) * (many - 2)
+    return task_of(many, {zeros + (0, 0): [rows[0]], zeros + (0, 1): rows, zeros + (1, 1): [rows[-1]]})
+
+
+def chained(count, width):
+    """Inputs one behind another, each sharing a rest with the next one; the first and the last bar each other."""
+    table = {((k + 1) // 2, k // 2, 0): [(n, n, n) for n in range(width)] for k in range(count)}
+    table[(0, 0, 0)] = [(0, 0, 0)]
+    table[(count // 2, (count - 1) // 2, 0)] = [(1, 1, 1)]
+    return task_of(3, table)
 
 
 def leader():
@@ -61,6 +96,11 @@ def deep_bar(depth):
     return thing
 
 
+def silent_folk():
+    """A folk of one round, of which no machine answers."""
+    return Folk(1, lambda me, value: None, lambda me, at, heard: None, lambda me, memory: None)
+
+
 def oddities():
     """Values that are no row, number, rest, lot, choice or plan of any task, new each time."""
     return [
@@ -78,6 +118,10 @@ def oddities():
         (deep_bar(400),) * 3, [0] * 90000, (None,) * 90000,
         leader(), (leader(), leader(), leader()), (0, leader()), (0, (leader(), 0)), [leader()], {0: leader()},
         NoRow(), NoName(1), SilentError(), (NoRow(), 0, 0), (0, (NoRow(), 0)),
+        (None, None, None), ((None,) * 3,) * 31, ((None, None),), ((None, True, None),),
+        ((False, None, None),), ([None, None, None],), [(None, None, None)], ((None, None, "0"),),
+        (((None, None, None),),), ((None, None, None), None), ("bare",), ("parts", (0, 0, 0), ()), ("run", (), ()),
+        ("view", 0, (0,), {}), {(0, (0,)): 0}, silent_folk(), (silent_folk(),),
     ]
 
 

@@ -9,7 +9,7 @@ FOLDER = Path(__file__).resolve().parent.parent / "onesilent"
 FILES = sorted(path for path in FOLDER.rglob("*") if path.is_file() and "__pycache__" not in path.parts)
 CALLED = {
     "len", "range", "enumerate", "zip", "min", "max", "sum", "abs", "sorted", "reversed", "int", "str", "bool", "list",
-    "tuple", "dict", "set", "isinstance", "ord", "repr", "any", "all", "divmod", "pow", "ValueError", "super",
+    "tuple", "dict", "set", "isinstance", "ord", "repr", "any", "all", "divmod", "pow", "ValueError", "super", "type",
 }
 METHODS = {
     "append", "clear", "copy", "count", "endswith", "extend", "find", "get", "index", "insert", "isalnum", "isalpha",
@@ -18,8 +18,14 @@ METHODS = {
 }
 BARRED = (
     ast.AsyncFunctionDef, ast.GeneratorExp, ast.Yield, ast.YieldFrom, ast.Global, ast.Nonlocal, ast.Await, ast.Div,
-    ast.Import, ast.ImportFrom, ast.Lambda, ast.With, ast.AnnAssign, ast.NamedExpr, ast.Match, ast.Try,
+    ast.Import, ast.ImportFrom, ast.With, ast.AnnAssign, ast.NamedExpr, ast.Match, ast.Try,
 )
+LIBRARY = {"heapq": {"heappush", "heappop"}}
+NO_ATTRIBUTES = {
+    "items", "keys", "values", "pop", "update", "append", "clear", "extend", "insert", "remove", "reverse", "setdefault",
+    "sort", "args", "encode", "decode", "hex", "fromhex", "format", "format_map", "mro", "real", "imag", "numerator",
+    "denominator", "conjugate", "discard", "union",
+}
 WORDS = (
     "register", "mro", "elements", "open", "input", "law", "version_info", "attrgetter", "dir", "eval", "exec", "exit",
     "gc", "globals", "help", "id", "locals", "os", "quit", "type", "vars", "enum", "typing", "map", "hash", "round",
@@ -71,14 +77,18 @@ class Form(TestCase):
             found = [node for node in ast.walk(tree) if isinstance(node, ast.ImportFrom)]
             for node in found:
                 self.assertIn(node, tree.body)
+                if node.module in LIBRARY:
+                    self.assertLessEqual({alias.name for alias in node.names}, LIBRARY[node.module])
+                    continue
                 self.assertEqual((node.level, node.module.split(".")[0]), (0, "onesilent"), path.name)
                 self.assertIsNotNone(node.module.partition(".")[2])
-                names = {part.name for part in ast.parse((FOLDER / (node.module[10:] + ".py")).read_text()).body
-                         if isinstance(part, (ast.FunctionDef, ast.ClassDef))}
+                body = ast.parse((FOLDER / (node.module[10:] + ".py")).read_text()).body
+                names = {part.name for part in body if isinstance(part, (ast.FunctionDef, ast.ClassDef))}
+                names |= {part.targets[0].id for part in body if isinstance(part, ast.Assign)}
                 for alias in node.names:
                     self.assertIn(alias.name, names)
                     self.assertIsNone(alias.asname)
-            behind[path.stem] = {node.module[10:] for node in found}
+            behind[path.stem] = {node.module[10:] for node in found if node.module not in LIBRARY}
         while behind:
             free = [name for name in behind if not behind[name] & set(behind)]
             self.assertTrue(free, behind)
@@ -119,6 +129,36 @@ class Form(TestCase):
                                                                 if isinstance(node, ast.arg)}
             self.assertEqual(imported & local, set(), path.name)
 
+    def test_attributes(self):
+        for path, tree in trees():
+            for made in [node for node in tree.body if isinstance(node, ast.ClassDef)]:
+                given = {node.attr for node in ast.walk(made) if isinstance(node, ast.Attribute)
+                         and isinstance(node.ctx, ast.Store)}
+                self.assertEqual(given & NO_ATTRIBUTES, set(), path.name)
+                self.assertEqual(given & {node.name for node in functions_of(made)}, set(), path.name)
+
+    def test_type_is_asked_for_in_comparisons_alone(self):
+        for path, tree in trees():
+            sides = [node.left for node in ast.walk(tree) if isinstance(node, ast.Compare)]
+            for node in ast.walk(tree):
+                if isinstance(node, ast.Call) and isinstance(node.func, ast.Name) and node.func.id == "type":
+                    self.assertIn(node, sides, f"{path.name}:{node.lineno}")
+
+    def test_what_is_iterated_at_once(self):
+        for path, tree in trees():
+            spots = []
+            for node in ast.walk(tree):
+                if isinstance(node, (ast.For, ast.comprehension)):
+                    spots.append(node.iter)
+                elif isinstance(node, ast.Call) and isinstance(node.func, ast.Name):
+                    spots.extend(node.args)
+            for node in ast.walk(tree):
+                if isinstance(node, ast.Call):
+                    name = node.func.id if isinstance(node.func, ast.Name) else node.func.attr
+                    if name in ("zip", "enumerate", "reversed", "range", "items", "keys", "values"):
+                        self.assertIn(node, spots, f"{path.name}:{node.lineno}")
+                    self.assertFalse(any(isinstance(each, ast.Starred) for each in node.args), path.name)
+
     def test_methods_of_values(self):
         for path, tree in trees():
             own = {node.name for _, each in trees() for node in functions_of(each)}
@@ -132,6 +172,9 @@ class Form(TestCase):
                 if isinstance(node, ast.Compare):
                     for sign, side in zip(node.ops, node.comparators):
                         if isinstance(sign, (ast.Is, ast.IsNot)):
+                            if isinstance(side, ast.Name) and side.id in ("dict", "list", "tuple"):
+                                self.assertEqual(node.left.func.id, "type")
+                                continue
                             self.assertIsInstance(side, ast.Constant, f"{path.name}:{node.lineno}")
                             self.assertIn(side.value, (None, True, False))
 

@@ -2,25 +2,58 @@
 
 from copy import deepcopy
 
-from onesilent.errors import BadTask, NoChoice, NoInputs, NoLot, NoMachine, NoNumber, NoRest, NoRow
+from onesilent.bars import bar, is_bar
+from onesilent.chain import alike_for, chain_at, known, mover
+from onesilent.errors import BadTask, NoChoice, NoFunction, NoInputs, NoLot, NoMachine, NoNumber, NoPattern, NoPlan
+from onesilent.errors import NoRest, NoRow
+from onesilent.foes import found_wrong, is_wrong, trials
+from onesilent.folks import Folk, answers, memories, wrong_run
 from onesilent.lots import parts, way
+from onesilent.making import longest, rounds_enough, told_folk
+from onesilent.patterns import count_patterns, is_pattern, pattern_at, pattern_number, plain, shut_out
 from onesilent.plans import choices, covers, is_choice, is_plan, plan
+from onesilent.refusals import fewest_rounds, is_refusal, refusal, span
 from onesilent.tasks import Task, completing, inputs_of, lot_of, put_in, rest_of, rests
+from onesilent.views import by_table, is_table, table, view_of
 from tests.cases import Case
-from tests.samples import agreement, apart, deep_bar, leader, nested, oddities, wide
+from tests.samples import agreement, apart, climbing, deep_bar, leader, nested, oddities, silent_folk, wide
 
 ROW = (0, 0, 0)
 LOT = ((0, 0, 0), (0, 0, 1), (1, 1, 1))
+TURN = (None, 0, 0)
+NONE = type(None)
+
+
+def lister():
+    """A folk of two rounds whose machines remember lists and dicts."""
+    return Folk(2, lambda me, value: [me, {"value": [value]}], lambda me, at, heard: (heard[me], [at]),
+                lambda me, memory: me)
 
 
 def sound_calls():
-    """A call of each function that tells something, with arguments made anew."""
-    task = apart([2, 1, 3])
+    """A call of each function that tells something, with arguments made anew, and the kind of what it tells."""
+    task, barred, far = apart([2, 1, 3]), agreement(3, 2), climbing(3, 3)
     return [
-        (inputs_of, (task,)), (lot_of, (task, ROW)), (rest_of, (ROW, 1)), (put_in, ((1, (0, 0)), 5)), (rests, (task,)),
-        (completing, (task, (0, (0, 0)))), (parts, (LOT,)), (way, (LOT, ROW, (0, 0, 1))), (way, (LOT, ROW, (1, 1, 1))),
-        (is_choice, (task, (1, 0, 2))), (covers, (task, (1, 0, 2), (0, (2, 2)))), (plan, (task,)),
-        (plan, (agreement(3, 2),)), (is_plan, (task, plan(task))), (choices, (task,)), (choices, (leader(),)),
+        (inputs_of, (task,), list), (lot_of, (task, ROW), tuple), (rest_of, (ROW, 1), tuple),
+        (put_in, ((1, (0, 0)), 5), tuple), (rests, (task,), list), (completing, (task, (0, (0, 0))), list),
+        (parts, (LOT,), list), (way, (LOT, ROW, (0, 0, 1)), tuple), (way, (LOT, ROW, (1, 1, 1)), NONE),
+        (is_choice, (task, (1, 0, 2)), bool), (covers, (task, (1, 0, 2), (0, (2, 2))), list), (plan, (task,), tuple),
+        (plan, (barred,), NONE), (is_plan, (task, plan(task)), bool), (choices, (task,), list),
+        (choices, (leader(),), list), (bar, (task,), NONE), (bar, (barred,), tuple), (is_bar, (barred, bar(barred)), bool),
+        (is_bar, (task, None), bool), (is_pattern, (3, 1, (TURN,)), bool), (plain, (3, 2), tuple),
+        (shut_out, (4, 2, 3), tuple), (count_patterns, (5, 30), int), (pattern_at, (3, 2, 700), tuple),
+        (pattern_number, (3, (TURN,)), int), (chain_at, (3, (TURN,), ((None, None, 1),), 2), tuple),
+        (mover, (3, 2, 7), tuple), (known, (3, (TURN, TURN)), tuple),
+        (alike_for, (ROW, (TURN,), (0, 0, 1), (TURN,)), tuple), (answers, (lister(), ROW, (TURN, TURN)), tuple),
+        (memories, (lister(), ROW, (TURN, TURN)), list), (wrong_run, (leader(), silent_folk()), tuple),
+        (wrong_run, (agreement(3, 1), by_table(1, table(agreement(3, 1), 1))), NONE), (longest, (far, plan(far)), int),
+        (rounds_enough, (far, plan(far)), int), (told_folk, (far, plan(far)), Folk),
+        (found_wrong, (barred, lister()), tuple), (is_wrong, (barred, lister(), (ROW, (TURN, TURN))), bool),
+        (trials, (task, 30), int), (view_of, (ROW, (TURN, TURN), 1), tuple), (table, (leader(), 1), dict),
+        (table, (barred, 1), NONE), (is_table, (leader(), 1, table(leader(), 1)), bool), (by_table, (1, {}), Folk),
+        (by_table, (1, table(leader(), 1)), Folk), (refusal, (leader(), 1), NONE), (refusal, (barred, 1), tuple),
+        (is_refusal, (barred, 1, refusal(barred, 1)), bool), (fewest_rounds, (far, 0), NONE),
+        (fewest_rounds, (leader(), 3), int), (span, (far, plan(far)), int),
     ]
 
 
@@ -32,7 +65,20 @@ def same(one, other):
         return len(one) == len(other) and all(same(a, b) for a, b in zip(one, other))
     if isinstance(one, dict):
         return same(list(one.items()), list(other.items()))
+    if isinstance(one, Folk):
+        return same([one.rounds, tried(one)], [other.rounds, tried(other)])
     return one == other
+
+
+def tried(folk):
+    """What a folk answers to some inputs by some patterns."""
+    return [answers(folk, inputs, pattern) for inputs in (ROW, (0, 0, 1), (0, 1, 1))
+            for pattern in (plain(3, folk.rounds), shut_out(3, folk.rounds, 2))]
+
+
+def held_by(arguments):
+    """The arguments, with what tasks among them hold."""
+    return [vars(each) if isinstance(each, Task) else None if isinstance(each, Folk) else each for each in arguments]
 
 
 def containers(thing):
@@ -50,23 +96,24 @@ def containers(thing):
 
 class Results(Case):
     def test_equal_calls_give_equal_results(self):
-        for (function, one), (_, other) in zip(sound_calls(), sound_calls()):
+        for (function, one, _), (_, other, _) in zip(sound_calls(), sound_calls()):
             first = function(*one)
             self.assertTrue(same(first, function(*one)), function.__name__)
             self.assertTrue(same(first, function(*other)), function.__name__)
 
     def test_each_list_and_dict_is_new(self):
-        for function, arguments in sound_calls():
+        for function, arguments, _ in sound_calls():
             first = function(*arguments)
+            found = containers(first)
+            self.assertEqual(len({id(each) for each in found}), len(found))
+            self.assertFalse({id(each) for each in found} & {id(each) for each in containers(list(arguments))})
             kept = deepcopy(first)
-            for each in containers(first):
+            for each in found:
                 each.clear()
             self.assertTrue(same(function(*arguments), kept), function.__name__)
 
     def test_the_results_are_of_the_kinds_told(self):
-        kinds = [list, tuple, tuple, tuple, list, list, list, tuple, type(None), bool, list, tuple, type(None), bool,
-                 list, list]
-        for (function, arguments), kind in zip(sound_calls(), kinds, strict=True):
+        for function, arguments, kind in sound_calls():
             self.assertIs(type(function(*arguments)), kind, function.__name__)
 
     def test_what_is_listed_is_of_tuples_of_integers(self):
@@ -83,11 +130,10 @@ class Results(Case):
 
 class Arguments(Case):
     def test_nothing_handed_in_is_changed(self):
-        for function, arguments in sound_calls():
-            task = arguments[0] if isinstance(arguments[0], Task) else None
-            kept = [deepcopy(vars(task)) if task is not None else None, deepcopy(arguments[1:])]
+        for function, arguments, _ in sound_calls():
+            kept = deepcopy(held_by(arguments))
             function(*arguments)
-            self.assertTrue(same([vars(task) if task is not None else None, arguments[1:]], kept), function.__name__)
+            self.assertTrue(same(held_by(arguments), kept), function.__name__)
 
     def test_odd_things_are_not_changed(self):
         task = apart([2, 1, 3])
@@ -95,6 +141,13 @@ class Arguments(Case):
             is_choice(task, thing)
             is_plan(task, (thing, thing))
             is_plan(task, ((0, 0, 0), {rest: thing for rest in rests(task)}))
+            is_bar(task, thing)
+            is_bar(task, ("parts", (0, 0, 0), (thing, thing)))
+            is_pattern(3, 1, (thing,))
+            is_wrong(task, silent_folk(), (thing, thing))
+            is_table(leader(), 0, thing)
+            is_table(leader(), 0, {(me, (0,)): thing for me in range(3)})
+            is_refusal(leader(), 0, ("view", 0, (0,), {0: thing, 1: thing}))
             for function in (parts, lambda value: lot_of(task, value), lambda value: covers(task, value, value)):
                 with self.assertRaises(ValueError):
                     function(thing)
@@ -118,6 +171,38 @@ class Arguments(Case):
         for rest in rests(task)[:3]:
             self.assertIn(found[1][rest], covers(task, found[0], rest))
             self.assertIn(put_in(rest, completing(task, rest)[0][rest[0]]), inputs_of(task))
+
+
+class ManyErrors(Case):
+    def test_each_argument_is_checked_whole_ahead_of_the_next_one(self):
+        folk, task = silent_folk(), apart([2, 1, 3])
+        wrongs = (None, True, [], {}, "", 1.0, (0,), BadTask("many"), leader(), folk, nested(30, lambda thing: [thing]))
+        for one in wrongs:
+            for other in wrongs:
+                for function, arguments, kind in (
+                    (is_pattern, (one, other, other), NoNumber), (is_pattern, (3, one, other), NoNumber),
+                    (plain, (one, other), NoNumber), (plain, (3, one), NoNumber), (shut_out, (one, other, other), NoNumber),
+                    (shut_out, (3, one, other), NoNumber), (shut_out, (3, 1, one), NoMachine),
+                    (pattern_at, (one, other, other), NoNumber), (pattern_number, (one, other), NoNumber),
+                    (pattern_number, (3, one), NoPattern), (chain_at, (one, other, other, other), NoNumber),
+                    (chain_at, (3, one, other, other), NoPattern), (chain_at, (3, (TURN,), one, other), NoPattern),
+                    (chain_at, (3, (TURN,), (TURN,), one), NoNumber), (mover, (one, other, other), NoNumber),
+                    (known, (one, other), NoNumber), (known, (3, one), NoPattern),
+                    (alike_for, (one, other, other, other), NoRow), (alike_for, (ROW, one, other, other), NoPattern),
+                    (alike_for, (ROW, (TURN,), one, other), NoRow), (alike_for, (ROW, (TURN,), ROW, one), NoPattern),
+                    (Folk, (one, other, other, other), NoNumber), (answers, (folk, one, other), NoRow),
+                    (answers, (folk, ROW, one), NoPattern), (memories, (folk, one, other), NoRow),
+                    (memories, (folk, ROW, one), NoPattern), (longest, (task, one), NoPlan),
+                    (rounds_enough, (task, one), NoPlan), (told_folk, (task, one), NoPlan), (trials, (task, one), NoNumber),
+                    (view_of, (one, other, other), NoRow), (view_of, (ROW, one, other), NoPattern),
+                    (view_of, (ROW, (TURN,), one), NoMachine), (table, (task, one), NoNumber),
+                    (is_table, (task, one, other), NoNumber), (by_table, (one, {}), NoNumber),
+                    (refusal, (task, one), NoNumber), (is_refusal, (task, one, other), NoNumber),
+                    (fewest_rounds, (task, one), NoNumber), (span, (task, one), NoPlan),
+                ):
+                    self.fails(kind, function, *arguments)
+                if one is None or isinstance(one, (bool, str, list, dict, tuple)):
+                    self.assertEqual(self.fails(NoFunction, Folk, 1, one, other, other).index, 1)
 
 
 class OrderOfChecks(Case):

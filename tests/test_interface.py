@@ -4,7 +4,7 @@ from importlib import import_module
 from inspect import isclass, isfunction, signature
 from unittest import TestCase
 
-from tests.samples import leader
+from tests.samples import leader, silent_folk
 
 FUNCTIONS = {
     "tasks": {
@@ -16,8 +16,37 @@ FUNCTIONS = {
         "is_choice": ["task", "thing"], "is_plan": ["task", "thing"], "covers": ["task", "choice", "rest"],
         "choices": ["task"], "plan": ["task"],
     },
+    "bars": {"bar": ["task"], "is_bar": ["task", "thing"]},
+    "patterns": {
+        "is_pattern": ["many", "rounds", "thing"], "plain": ["many", "rounds"], "shut_out": ["many", "rounds", "i"],
+        "pattern_at": ["many", "rounds", "number"], "count_patterns": ["many", "rounds"],
+        "pattern_number": ["many", "pattern"],
+    },
+    "chain": {
+        "chain_at": ["many", "first", "last", "number"], "mover": ["many", "rounds", "number"],
+        "known": ["many", "pattern"], "alike_for": ["inputs", "pattern", "other", "later"],
+    },
+    "folks": {
+        "answers": ["folk", "inputs", "pattern"], "memories": ["folk", "inputs", "pattern"],
+        "wrong_run": ["task", "folk"],
+    },
+    "making": {"longest": ["task", "plan"], "rounds_enough": ["task", "plan"], "told_folk": ["task", "plan"]},
+    "foes": {
+        "found_wrong": ["task", "folk"], "is_wrong": ["task", "folk", "thing"], "trials": ["task", "rounds"],
+    },
+    "views": {
+        "view_of": ["inputs", "pattern", "me"], "table": ["task", "rounds"], "is_table": ["task", "rounds", "thing"],
+        "by_table": ["rounds", "table"],
+    },
+    "refusals": {
+        "refusal": ["task", "rounds"], "is_refusal": ["task", "rounds", "thing"], "fewest_rounds": ["task", "most"],
+        "span": ["task", "plan"],
+    },
 }
-CLASSES = {"tasks": {"Task": (["many", "lots"], ["__eq__"])}}
+CLASSES = {
+    "tasks": {"Task": (["many", "lots"], ["__eq__"])},
+    "folks": {"Folk": (["rounds", "begin", "step", "answer"], ["__init__"])},
+}
 
 
 class Interface(TestCase):
@@ -49,3 +78,4 @@ class Interface(TestCase):
 
     def test_attributes_are_set_on_each_object(self):
         self.assertEqual(sorted(vars(leader())), ["lots", "many"])
+        self.assertEqual(vars(silent_folk())["rounds"], 1)
