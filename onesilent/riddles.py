@@ -192,7 +192,7 @@ class Riddle:
                 at = self.gone[k].get(value, place)
                 if at < place and column[value] & picks:
                     found.append((at, k, value, column[value]))
-        return [(k, value) for _, k, value, _ in _needed(sorted(found), picks)]
+        return [(bar[1], bar[2]) for bar in _needed(sorted(found), picks)]
 
 
 def _needed(found, picks):
