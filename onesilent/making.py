@@ -67,15 +67,15 @@ class Guide:
 
     def _nearer(self, told):
         """Tell the memory of a machine that hears these, in the middle between the furthest of them."""
-        inputs = _merged([each for each, _, _ in told])
-        found = [silent for _, silent, _ in told if silent is not None]
+        inputs = _merged([memory[0] for memory in told])
+        found = [memory[1] for memory in told if memory[1] is not None]
         silent = found[0] if found else None
         if None in inputs:
             return (inputs, silent, None)
         if silent is None or inputs not in self.ways:
             return (inputs, None, 0)
         end = len(self.ways[inputs][silent]) - 1
-        places = [end if place is None else place for _, _, place in told]
+        places = [end if memory[2] is None else memory[2] for memory in told]
         return (inputs, silent, (min(places) + max(places)) // 2)
 
     def said(self, me, memory):

@@ -2,6 +2,8 @@
 
 from heapq import heappop, heappush
 
+MOST_COST = 1000000000000
+
 
 def columns_of(picks, width):
     """Tell for each question of a rule by which picks it has which value, the picks as the bits of a number."""
@@ -18,6 +20,14 @@ def bits_of(numbers):
     for number in numbers:
         bits = bits | (1 << number)
     return bits
+
+
+def cost_of(counts, questions):
+    """Tell in how many ways some questions could be answered; beyond a bound it does not matter in how many."""
+    cost = 1
+    for k in questions:
+        cost = min(cost * counts[k], MOST_COST)
+    return cost
 
 
 class Clash:
@@ -40,7 +50,7 @@ class Riddle:
     def __init__(self, counts, rules):
         self.counts = counts
         self.rules = rules
-        self.costs = [self._cost(scope) for scope, _ in rules]
+        self.costs = [cost_of(counts, scope) for scope, _ in rules]
         self.asking = [[] for _ in counts]
         self.near = [0 for _ in counts]
         for number, (scope, _) in enumerate(rules):
@@ -54,13 +64,6 @@ class Riddle:
         self.marks = []
         self.weights = [1 for _ in counts]
         self.ticks = 0
-
-    def _cost(self, scope):
-        """Tell in how many ways some questions could be answered."""
-        cost = 1
-        for k in scope:
-            cost = cost * self.counts[k]
-        return cost
 
     def start(self):
         """Bar what the rules bar without decisions; tell a rule without picks, or None."""
@@ -96,7 +99,7 @@ class Riddle:
         for number in numbers:
             self._queue(number, queue, queued)
         while queue:
-            _, _, number = heappop(queue)
+            number = heappop(queue)[2]
             del queued[number]
             picks = self._picks_left(number)
             if picks == 0:

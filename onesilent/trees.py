@@ -1,6 +1,6 @@
 """Trees that tell why a riddle has no answers: questions are asked, each value has a branch, down to a broken rule."""
 
-from onesilent.riddles import Clash, bits_of
+from onesilent.riddles import Clash, bits_of, cost_of
 
 
 def is_tree(thing, reader):
@@ -38,7 +38,7 @@ class Tree:
         self.places = {}
         self.asked = {}
         self.grown = {}
-        self.waiting = [("prove", proof)]
+        self.waiting = [("grow", proof)]
         self.done = []
         self._grow()
 
@@ -53,11 +53,9 @@ class Tree:
             elif verb == "break":
                 self.done.append(self._broken(item))
             elif isinstance(item, Clash):
-                if verb == "prove":
-                    self.grown = {}
                 self._unfold(item)
             else:
-                self._ask(item.question, None, [("prove", item.proofs[value]) for value in sorted(item.proofs)])
+                self._ask(item.question, None, [("grow", item.proofs[value]) for value in sorted(item.proofs)])
 
     def _ask(self, k, key, branches):
         """Have a question asked, and its branches grown."""
@@ -72,7 +70,8 @@ class Tree:
         start = len(self.done) - self.counts[k]
         place = self._place(k, tuple(self.done[start:]))
         self.done[start:] = [place]
-        self.grown[key] = place
+        if key is not None:
+            self.grown[key] = place
 
     def _place(self, question, below):
         """Tell the place of a node, which is made if it is not there."""
@@ -108,8 +107,8 @@ class Tree:
             return ("break", broken[value])
         if (k, value) in bars:
             _, rule, behind = clash.reasons[(k, value)]
-            return ("go on", Clash(rule, behind, clash.reasons))
-        return ("go on", clash)
+            return ("grow", Clash(rule, behind, clash.reasons))
+        return ("grow", clash)
 
     def _unasked(self, clash):
         """Tell all bars that a clash needs, of questions that are not asked."""
@@ -123,7 +122,7 @@ class Tree:
         return bars
 
     def _key(self, clash, bars):
-        """Tell all that the branches of a clash depend on."""
+        """Tell all that a tree for a clash depends on: it asks no other questions, nor breaks rules about others."""
         bits = bits_of(self.source.rules[clash.rule][0])
         for k, _ in bars:
             bits = bits | self.source.near[k]
@@ -157,11 +156,9 @@ class Tree:
     def _asked_of(self, number, mine):
         """Tell in how many ways the rest of a rule can be asked, its number, a question's column and the picks left."""
         scope, columns = self.source.rules[number]
-        cost = 1
         picks = -1
         for k, column in zip(scope, columns):
             if k in self.asked:
                 picks = picks & column.get(self.asked[k], 0)
-            elif k != mine:
-                cost = cost * self.counts[k]
-        return (cost, number, columns[scope.index(mine)], picks)
+        left = [k for k in scope if k not in self.asked and k != mine]
+        return (cost_of(self.counts, left), number, columns[scope.index(mine)], picks)

@@ -48,7 +48,7 @@ def walkers(rounds, low, high):
 
 
 def cautious(rounds, many):
-    """Machines that tell the greatest input, but without that of one that they hear of, or know themselves, as silent."""
+    """Machines that tell the greatest input, but for that of one that they hear of, or know themselves, as silent."""
     def step(me, at, heard):
         told = [memory[0] for memory in heard if memory is not None]
         silent = [i for known in told for i in range(many) if i not in dict(known)]

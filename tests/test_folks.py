@@ -59,7 +59,8 @@ class Made(Case):
             self.assertEqual(self.fails(NoFunction, Folk, 1, len, len, wrong).index, 3)
 
     def test_any_other_thing_is_taken(self):
-        for thing in (len, Told, Told(), Told().begin, lambda me: me, leader(), silent_folk(), NoRow(), NoRow, 1.5, b"x"):
+        for thing in (len, Told, Told(), Told().begin, lambda me: me, leader(), silent_folk(), NoRow(), NoRow, 1.5,
+                      b"x"):
             self.assertEqual(Folk(2, thing, thing, thing).rounds, 2)
 
 
@@ -120,7 +121,8 @@ class Runs(Case):
                 self.assertEqual(row, tuple(plain_view(inputs, pattern[:at], me) for me in range(many)))
 
     def test_a_memory_may_be_none(self):
-        folk = Folk(1, lambda me, value: None if me == 1 else value, lambda me, at, heard: heard, lambda me, memory: None)
+        folk = Folk(1, lambda me, value: None if me == 1 else value, lambda me, at, heard: heard,
+                    lambda me, memory: None)
         self.assertEqual(memories(folk, (4, 5, 6), ((2, None, None),)), [
             (4, None, 6), ((4, None, None), (4, None, 6), (4, None, 6))])
 

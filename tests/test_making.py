@@ -200,7 +200,8 @@ class Solved(Case):
 
     def test_numbers_beyond_the_constructor(self):
         shift = 10 ** 109
-        table = {(x + shift, -shift, 0): [tuple(value - shift for value in row) for row in climb(3, 6)] for x in range(3)}
+        rows = [tuple(value - shift for value in row) for row in climb(3, 6)]
+        table = {(x + shift, -shift, 0): rows for x in range(3)}
         task = wide(3, table)
         self.check(task, plan(task))
         task = wide(3, {(k, 0, 0): [(n, k * (n > 3), 0) for n in range(70)] for k in range(100)})

@@ -1,5 +1,6 @@
 """Point 19: refusals, the fewest rounds, and the span."""
 
+from itertools import product
 from random import Random
 
 from onesilent.errors import NoNumber, NoPlan, TooMany
@@ -42,7 +43,8 @@ def bent(each):
         _, inputs, pattern = each
         return [("run", inputs), ("run", inputs, pattern, ()), ["run", inputs, pattern], ("runs", inputs, pattern),
                 ("run", list(inputs), pattern), ("run", inputs, list(pattern)), ("run", (99,) * len(inputs), pattern),
-                ("run", inputs, pattern * 2 + plain(len(inputs), 1)), ("run", inputs, pattern + plain(len(inputs), 1)), ("run", None, pattern),
+                ("run", inputs, pattern * 2 + plain(len(inputs), 1)), ("run", None, pattern),
+                ("run", inputs, pattern + plain(len(inputs), 1)),
                 ("run", tuple(bool(k) for k in inputs), pattern), ("run", inputs, None), ("run", inputs[1:], pattern),
                 ("run", inputs, tuple(list(turn) for turn in pattern) or []), ("view", inputs, pattern), "run", None,
                 ("run", inputs, tuple((0,) * len(inputs) for _ in pattern) or None), (), {"run": (inputs, pattern)},
@@ -100,6 +102,17 @@ class Refusals(Case):
             found = refusal(task, rounds)
             self.assertIs(is_refusal(task, rounds, found), True)
             self.assertLess(refusal_size(found), most)
+
+    def test_of_drawn_tasks_with_many_rows(self):
+        source = Random(195)
+        rows, cells = list(product(range(4), repeat=3)), list(product(range(2), repeat=3))
+        found = 0
+        while found < 60:
+            task = task_of(3, {cell: source.sample(rows, source.randint(5, 12)) for cell in source.sample(cells, 7)})
+            thing = refusal(task, 1)
+            if thing is not None:
+                found += 1
+                self.assertIs(is_refusal(task, 1, thing), True)
 
     def test_by_hand(self):
         task = task_of(3, {(0, 0, 0): [(0, 0, 0)], (0, 0, 1): [(1, 1, 1)]})

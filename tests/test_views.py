@@ -50,7 +50,8 @@ class Views(Case):
             self.fails(NoRow, view_of, wrong, (TURN,), 0)
             self.fails(NoRow, view_of, wrong, None, None)
         for wrong in [thing for thing in oddities() if thing != ()] + [
-                (TURN,) * 5, (TURN,) * 30, ((None,) * 4,), ((0, None, None),), ((3, None, None),), [TURN], (list(TURN),),
+                (TURN,) * 5, (TURN,) * 30, ((None,) * 4,), ((0, None, None),), ((3, None, None),), [TURN],
+                (list(TURN),),
                 (TURN, (None, False, None)), (TURN, None), (TURN, ())]:
             self.fails(NoPattern, view_of, (0, 0, 0), wrong, 0)
             self.fails(NoPattern, view_of, (0, 0, 0), wrong, None)
