@@ -23,8 +23,8 @@ BARRED = (
 LIBRARY = {"heapq": {"heappush", "heappop"}}
 NO_ATTRIBUTES = {
     "items", "keys", "values", "pop", "update", "append", "clear", "extend", "insert", "remove", "reverse",
-    "setdefault", "sort", "args", "encode", "decode", "hex", "fromhex", "format", "format_map", "mro", "real", "imag", "numerator",
-    "denominator", "conjugate", "discard", "union",
+    "setdefault", "sort", "args", "encode", "decode", "hex", "fromhex", "format", "format_map", "mro", "real", "imag",
+    "numerator", "denominator", "conjugate", "discard", "union",
 }
 WORDS = (
     "register", "mro", "elements", "open", "input", "law", "version_info", "attrgetter", "dir", "eval", "exec", "exit",
