@@ -25,6 +25,14 @@ class Task:
         return isinstance(other, Task) and self.many == other.many and self.lots == other.lots
 
 
+def made_task(many, lots):
+    """Make a task of lots that are right but perhaps beyond the bounds within which a task is constructed."""
+    task = Task(3, (((0, 0, 0), ((0, 0, 0),)),))
+    task.many = many
+    task.lots = lots
+    return task
+
+
 def _is_pair(many, thing):
     """Tell whether a thing is a pair of inputs and their lot, within the bounds of a task that is constructed."""
     if not isinstance(thing, tuple) or len(thing) != 2:

@@ -170,15 +170,17 @@ def is_plain_refusal(task, rounds, thing, asked=None):
     return all(pair in asked for pair in pairs) and tuple(asked[pair] for pair in pairs) not in lots[inputs]
 
 
-def wrong_answers(folk, inputs, lot):
-    """All that a folk answers by any pattern that is not let, by the states that its machines can reach together."""
+def wrong_answers(folk, inputs, lot, some=(0, 1, 2, 3, 4)):
+    """All that a folk answers by any pattern that is not let, by the states that its machines can reach together.
+
+    The patterns are those that miss some machines alone."""
     many = len(inputs)
     states = {tuple(folk.begin(me, inputs[me]) for me in range(many))}
     for at in range(folk.rounds):
         reached = set()
         for state in states:
             heard = [[tuple(None if by == missed else state[by] for by in range(many))
-                      for missed in [None, *others_of(many, me)]] for me in range(many)]
+                      for missed in [None, *[by for by in others_of(many, me) if by in some]]] for me in range(many)]
             reached.update(product(*[{folk.step(me, at, each) for each in heard[me]} for me in range(many)]))
         states = reached
     told = {tuple(folk.answer(me, state[me]) for me in range(many)) for state in states}

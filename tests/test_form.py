@@ -20,7 +20,7 @@ BARRED = (
     ast.AsyncFunctionDef, ast.GeneratorExp, ast.Yield, ast.YieldFrom, ast.Global, ast.Nonlocal, ast.Await, ast.Div,
     ast.Import, ast.ImportFrom, ast.With, ast.AnnAssign, ast.NamedExpr, ast.Match, ast.Try,
 )
-LIBRARY = {"heapq": {"heappush", "heappop"}}
+LIBRARY = {"heapq": {"heappush", "heappop"}, "itertools": {"combinations", "permutations"}}
 NO_ATTRIBUTES = {
     "items", "keys", "values", "pop", "update", "append", "clear", "extend", "insert", "remove", "reverse",
     "setdefault", "sort", "args", "encode", "decode", "hex", "fromhex", "format", "format_map", "mro", "real", "imag",
@@ -38,6 +38,13 @@ def trees():
 
 def functions_of(tree):
     return [node for node in ast.walk(tree) if isinstance(node, ast.FunctionDef)]
+
+
+def is_plain(node):
+    """Whether an expression is a literal, or a tuple of such, or a dict of such and of functions."""
+    if isinstance(node, ast.Dict):
+        return all(is_plain(each) or isinstance(each, ast.Name) for each in [*node.keys, *node.values])
+    return isinstance(node, ast.Constant) or isinstance(node, ast.Tuple) and all(is_plain(each) for each in node.elts)
 
 
 class Form(TestCase):
@@ -69,7 +76,8 @@ class Form(TestCase):
                 kinds = (ast.ImportFrom, ast.FunctionDef, ast.ClassDef, ast.Assign)
                 self.assertIsInstance(node, kinds, f"{path.name}:{node.lineno}")
                 if isinstance(node, ast.Assign):
-                    self.assertIsInstance(node.value, ast.Constant, f"{path.name}:{node.lineno}")
+                    self.assertEqual(len(node.targets), 1, f"{path.name}:{node.lineno}")
+                    self.assertTrue(is_plain(node.value), f"{path.name}:{node.lineno}")
 
     def test_imports_are_of_the_package_and_in_no_circle(self):
         behind = {}

@@ -2,17 +2,22 @@
 
 from copy import deepcopy
 
+from onesilent.algebra import behind, beside, beside_plan, fewer, folk_behind, wider
 from onesilent.bars import bar, is_bar
 from onesilent.chain import alike_for, chain_at, known, mover
 from onesilent.errors import BadTask, NoChoice, NoFunction, NoInputs, NoLot, NoMachine, NoNumber, NoPattern, NoPlan
-from onesilent.errors import NoRest, NoRow
+from onesilent.errors import NoOffers, NoRest, NoRow, NoSome, NoWord
+from onesilent.families import agreement as family_agreement, few as family_few, leader as family_leader
+from onesilent.families import family_planned, near, unlike
 from onesilent.foes import found_wrong, is_wrong, trials
 from onesilent.folks import Folk, answers, memories, wrong_run
 from onesilent.lots import parts, way
 from onesilent.making import longest, rounds_enough, told_folk
+from onesilent.mending import greatest, kernel, mended
 from onesilent.patterns import count_patterns, is_pattern, pattern_at, pattern_number, plain, shut_out
 from onesilent.plans import choices, covers, is_choice, is_plan, plan
 from onesilent.refusals import fewest_rounds, is_refusal, refusal, span
+from onesilent.sure import is_sparing, is_sure_plan, silences, sure_bar, sure_folk, sure_plan
 from onesilent.tasks import Task, completing, inputs_of, lot_of, put_in, rest_of, rests
 from onesilent.views import by_table, is_table, table, view_of
 from tests.cases import Case
@@ -55,7 +60,32 @@ def sound_calls():
         (by_table, (1, table(leader(), 1)), Folk), (refusal, (leader(), 1), NONE), (refusal, (barred, 1), tuple),
         (is_refusal, (barred, 1, refusal(barred, 1)), bool), (fewest_rounds, (far, 0), NONE),
         (fewest_rounds, (leader(), 3), int), (span, (far, plan(far)), int),
+    ] + calls_of_stage_4()
+
+
+def calls_of_stage_4():
+    """Calls of the functions of the points 20 to 23."""
+    barred, small, some = agreement(3, 2), apart([2, 1]), (0, 2)
+    told = sure_plan(barred, some)
+    offers = ((ROW, (0, 0, 1)), ((0, 0, 1), (0, 0, 1)), ((0, 0, 1), (0, 1, 1)))
+    return [
+        (is_sparing, (some, (TURN,)), bool), (sure_plan, (barred, some), dict), (sure_plan, (barred, ()), dict),
+        (sure_plan, (mutes(), (2,)), NONE), (is_sure_plan, (barred, some, told), bool),
+        (sure_bar, (barred, some), NONE), (sure_bar, (mutes(), (2,)), tuple), (sure_folk, (barred, some, told), Folk),
+        (silences, (barred,), list), (silences, (mutes(),), list), (silences, (small,), list),
+        (beside, (small, barred), Task), (beside_plan, (small, leader(), plan(small), plan(leader())), tuple),
+        (behind, (small, apart([1, 2, 3])), Task), (folk_behind, (lister(), lister()), Folk),
+        (fewer, (barred, (ROW, (0, 0, 1))), Task), (wider, (barred, offers), Task), (kernel, (barred,), tuple),
+        (kernel, (small,), NONE), (greatest, (barred,), list), (mended, (barred, offers), NONE),
+        (mended, (mutes(), ((ROW, (1, 1, 1)),)), tuple), (family_agreement, (3, 2), Task),
+        (family_few, (3, 2, 2), Task), (near, (3, 3), Task), (family_leader, (4,), Task), (unlike, (4, 5), Task),
+        (family_planned, ("unlike", 9, 8, None), bool),
     ]
+
+
+def mutes():
+    """A task in which machine 2 may not be missed."""
+    return Task(3, ((ROW, (ROW,)), ((0, 0, 1), ((1, 1, 1),))))
 
 
 def same(one, other):
@@ -149,6 +179,10 @@ class Arguments(Case):
             is_table(leader(), 0, thing)
             is_table(leader(), 0, {(me, (0,)): thing for me in range(3)})
             is_refusal(leader(), 0, ("view", 0, (0,), {0: thing, 1: thing}))
+            is_sparing((0, 1), thing)
+            is_sparing((0, 1), (thing,))
+            is_sure_plan(task, (0,), thing)
+            is_sure_plan(task, (0,), {(0, (k, k)): thing for k in range(3)})
             for function in (parts, lambda value: lot_of(task, value), lambda value: covers(task, value, value)):
                 with self.assertRaises(ValueError):
                     function(thing)
@@ -177,7 +211,7 @@ class Arguments(Case):
 class ManyErrors(Case):
     def test_each_argument_is_checked_whole_ahead_of_the_next_one(self):
         folk, task = silent_folk(), apart([2, 1, 3])
-        wrongs = (None, True, [], {}, "", 1.0, (0,), BadTask("many"), leader(), folk, nested(30, lambda thing: [thing]))
+        wrongs = (None, True, [], {}, "", 1.0, (7,), BadTask("many"), leader(), folk, nested(30, lambda thing: [thing]))
         for one in wrongs:
             for other in wrongs:
                 for function, arguments, kind in (
@@ -202,6 +236,19 @@ class ManyErrors(Case):
                     (is_table, (task, one, other), NoNumber), (by_table, (one, {}), NoNumber),
                     (refusal, (task, one), NoNumber), (is_refusal, (task, one, other), NoNumber),
                     (fewest_rounds, (task, one), NoNumber), (span, (task, one), NoPlan),
+                    (sure_plan, (task, one), NoLot), (is_sure_plan, (task, one, other), NoLot),
+                    (sure_bar, (task, one), NoLot), (sure_folk, (task, one, other), NoLot),
+                    (sure_folk, (task, (0,), one), NoPlan), (beside_plan, (task, task, one, other), NoPlan),
+                    (beside_plan, (task, task, plan(task), one), NoPlan), (fewer, (task, one), NoSome),
+                    (wider, (task, one), NoOffers), (mended, (task, one), NoOffers),
+                    (family_agreement, (one, other), NoNumber), (family_agreement, (3, one), NoNumber),
+                    (family_few, (one, other, other), NoNumber), (family_few, (3, one, other), NoNumber),
+                    (family_few, (3, 7, one), NoNumber), (near, (one, other), NoNumber), (near, (3, one), NoNumber),
+                    (family_leader, (one,), NoNumber), (unlike, (one, other), NoNumber), (unlike, (3, one), NoNumber),
+                    (family_planned, (one, other, other, other), NoWord),
+                    (family_planned, ("few", one, other, other), NoNumber),
+                    (family_planned, ("few", 3, one, other), NoNumber),
+                    (family_planned, ("few", 3, 3, one), NoNumber),
                 ):
                     self.fails(kind, function, *arguments)
                 if one is None or isinstance(one, (bool, str, list, dict, tuple)):

@@ -42,6 +42,19 @@ FUNCTIONS = {
         "refusal": ["task", "rounds"], "is_refusal": ["task", "rounds", "thing"], "fewest_rounds": ["task", "most"],
         "span": ["task", "plan"],
     },
+    "sure": {
+        "is_sparing": ["some", "thing"], "is_sure_plan": ["task", "some", "thing"], "sure_plan": ["task", "some"],
+        "sure_bar": ["task", "some"], "sure_folk": ["task", "some", "told"], "silences": ["task"],
+    },
+    "algebra": {
+        "beside": ["one", "other"], "behind": ["one", "other"], "fewer": ["task", "inputs"],
+        "wider": ["task", "offers"], "beside_plan": ["one", "other", "first", "later"], "folk_behind": ["first", "later"],
+    },
+    "mending": {"kernel": ["task"], "mended": ["task", "offers"], "greatest": ["task"]},
+    "families": {
+        "agreement": ["many", "values"], "few": ["many", "values", "most"], "near": ["many", "values"],
+        "leader": ["many"], "unlike": ["many", "names"], "family_planned": ["word", "many", "number", "most"],
+    },
 }
 CLASSES = {
     "tasks": {"Task": (["many", "lots"], ["__eq__"])},
