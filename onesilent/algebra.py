@@ -2,10 +2,10 @@
 
 from onesilent.ends import chosen_ends
 from onesilent.errors import NoInputs, NoOffers, NoSome, OtherMany, TooMany
-from onesilent.folks import Folk
+from onesilent.folks import Folk, answer_of
 from onesilent.lots import parts
 from onesilent.tasks import MOST_NUMBER, made_task
-from onesilent.values import MOST_ROUNDS, is_ascending, is_integer, is_integers, is_row
+from onesilent.values import MOST_ROUNDS, is_ascending, is_integers, is_row
 
 MOST_TOGETHER = 400
 MOST_OFFERS = 12
@@ -109,8 +109,8 @@ class Relay:
 
     def _handed(self, me, memory):
         """Tell the first memory of a machine of the later folk, this being its last one of the first folk."""
-        told = self.front.answer(me, memory)
-        return self.rear.begin(me, told if is_integer(told) else 0)
+        said = answer_of(self.front, me, memory)
+        return self.rear.begin(me, 0 if said is None else said)
 
 
 def _check_many(one, other):

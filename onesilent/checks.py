@@ -1,7 +1,7 @@
 """The errors that many functions name for an argument."""
 
 from onesilent.errors import NoMachine, NoNumber, NoPattern, NoRow
-from onesilent.values import is_integers, is_number, is_turn
+from onesilent.values import MOST_ROUNDS, is_integers, is_number, is_turn
 
 
 def check_number(thing, least, most):
@@ -27,6 +27,11 @@ def is_pattern_of(thing, many, least, most):
     if not isinstance(thing, tuple) or not least <= len(thing) <= most:
         return False
     return all([is_turn(turn, many) for turn in thing])
+
+
+def is_any_pattern(thing):
+    """Tell whether a thing is a pattern of any number of machines and of any number of rounds."""
+    return any([is_pattern_of(thing, many, 0, MOST_ROUNDS) for many in (3, 4, 5)])
 
 
 def check_pattern(thing, many, least, most):

@@ -22,6 +22,20 @@ def renewed(thing, most):
     return done[0]
 
 
+def holds_loose(thing, most):
+    """Tell whether a list or a dict is in a thing, looking at so many things in it."""
+    waiting = [thing]
+    seen = 0
+    while waiting and seen <= most:
+        item = waiting.pop()
+        if type(item) in (list, dict):
+            return True
+        if type(item) is tuple:
+            seen += len(item)
+            waiting.extend(item)
+    return False
+
+
 def _held(thing):
     """List what a list, a tuple or a dict holds."""
     if type(thing) is dict:

@@ -27,7 +27,8 @@ class Folk:
 def answers(folk, inputs, pattern):
     """Tell what all machines answer behind all rounds."""
     _check_run(folk, inputs, pattern)
-    return answers_of(folk, _course(folk, inputs, pattern)[-1])
+    last = _course(folk, inputs, pattern)[-1]
+    return tuple([answer_of(folk, me, memory) for me, memory in enumerate(last)])
 
 
 def memories(folk, inputs, pattern):
@@ -58,10 +59,10 @@ def heard_of(told, missed):
     return tuple([None if by == missed else each for by, each in enumerate(told)])
 
 
-def answers_of(folk, last):
-    """Tell what all machines answer, these being their memories behind all rounds."""
-    said = [folk.answer(me, memory) for me, memory in enumerate(last)]
-    return tuple([each if is_integer(each) else None for each in said])
+def answer_of(folk, me, memory):
+    """Tell what a machine answers, this being its memory behind all rounds; None for what is no integer."""
+    said = folk.answer(me, memory)
+    return said if is_integer(said) else None
 
 
 def _check_run(folk, inputs, pattern):

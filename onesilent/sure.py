@@ -1,17 +1,17 @@
 """Machines of which only some may fall silent: what they can do then, and whose silence is too much."""
 
-from onesilent.checks import is_pattern_of
+from onesilent.checks import is_any_pattern
 from onesilent.errors import NoLot, NoPlan
 from onesilent.folks import Folk
 from onesilent.plans import plan
-from onesilent.values import MOST_ROUNDS, is_ascending, is_integers, is_number, without
+from onesilent.values import is_ascending, is_integers, is_number, without
 
 
 def is_sparing(some, thing):
     """Tell whether a thing is a pattern in which nobody misses any other machine than some."""
     if not _is_lot_below(some, 5):
         raise NoLot()
-    if not any([is_pattern_of(thing, many, 0, MOST_ROUNDS) for many in (3, 4, 5)]):
+    if not is_any_pattern(thing):
         return False
     return all([missed is None or missed in some for turn in thing for missed in turn])
 

@@ -108,7 +108,8 @@ class Beside(Case):
             over = tuple(10000 if k == place else 0 for k in range(3))
             for fit in (task_of(3, {top: [ROW]}), task_of(3, {ROW: [ROW, top]})):
                 self.assertEqual(beside(fit, fit).many, 3)
-            for wrong in (wide(3, {over: [ROW]}), wide(3, {ROW: [ROW, over]}), wide(3, {ROW: [ROW], (1, 1, 1): [over]})):
+            for table in ({over: [ROW]}, {ROW: [ROW, over]}, {ROW: [ROW], (1, 1, 1): [over]}):
+                wrong = wide(3, table)
                 for pair in ((wrong, small), (small, wrong), (wrong, wrong)):
                     self.assertEqual(self.fails(TooMany, beside, *pair).most, 9999)
                     self.assertEqual(self.fails(TooMany, beside_plan, *pair, None, None).most, 9999)
@@ -192,8 +193,8 @@ class BesidePlan(Case):
         one, other = leader(3), apart([2, 1, 3])
         first, later = plan(one), plan(other)
         rest = rests(other)[0]
-        for wrong in oddities() + [None, (), later[1], list(later), (later[0], {}), (later[0], {**later[1], rest: [0, 0]}),
-                                   (later[0], {**later[1], rest: (8, 8)}), ((0, 0, 9), later[1])]:
+        for wrong in oddities() + [None, (), later[1], list(later), (later[0], {}), ((0, 0, 9), later[1]),
+                                   (later[0], {**later[1], rest: [0, 0]}), (later[0], {**later[1], rest: (8, 8)})]:
             self.fails(NoPlan, beside_plan, one, other, first, wrong)
             self.fails(NoPlan, beside_plan, other, one, wrong, first)
             self.fails(NoPlan, beside_plan, one, other, wrong, wrong)
@@ -425,7 +426,7 @@ class Wider(Case):
         """What is no lot of offers for apart([2, 1])."""
         good = (ROW, (0, 0, 5))
         wrong = [thing for thing in oddities() if thing != ()]
-        wrong += [[good], good, (list(good),), (good + (1,),), (good[:1],), ((ROW, [0, 0, 5]),), (([0, 0, 0], (0, 0, 5)),),
+        wrong += [[good], good, (list(good),), (good + (1,),), (good[:1],), ((ROW, [0, 0, 5]),), ((list(ROW), ROW),),
                   ((ROW, (0, 0, -1)),), ((ROW, (0, 0, True)),), ((ROW, (0, 0)),), ((ROW, (0, 0, 0, 5)),),
                   ((ROW, ROW),), ((ROW, (1, 1, 1)),), (((2, 2, 2), (0, 0, 5)),), (((0, 0, False), (0, 0, 5)),),
                   (((1, 1, 1), (0, 0, 5)), good), (good, None), (None, good), ((ROW, "005"),), ((ROW, None),),

@@ -18,7 +18,7 @@ METHODS = {
 }
 BARRED = (
     ast.AsyncFunctionDef, ast.GeneratorExp, ast.Yield, ast.YieldFrom, ast.Global, ast.Nonlocal, ast.Await, ast.Div,
-    ast.Import, ast.ImportFrom, ast.With, ast.AnnAssign, ast.NamedExpr, ast.Match, ast.Try,
+    ast.Import, ast.ImportFrom, ast.With, ast.AnnAssign, ast.NamedExpr, ast.Match,
 )
 LIBRARY = {"heapq": {"heappush", "heappop"}, "itertools": {"combinations", "permutations"}}
 NO_ATTRIBUTES = {
@@ -193,6 +193,16 @@ class Form(TestCase):
             for node in ast.walk(tree):
                 if isinstance(node, (ast.Set, ast.SetComp)):
                     self.assertIn(node, spots, f"{path.name}:{node.lineno}")
+
+    def test_own_errors_alone_are_caught(self):
+        body = ast.parse((FOLDER / "errors.py").read_text()).body
+        own = {node.name for node in body if isinstance(node, ast.ClassDef)}
+        for path, tree in trees():
+            for node in ast.walk(tree):
+                if isinstance(node, ast.Try):
+                    self.assertEqual(node.finalbody, [], f"{path.name}:{node.lineno}")
+                    for handler in node.handlers:
+                        self.assertIn(handler.type.id, own, f"{path.name}:{handler.lineno}")
 
     def test_a_raise_makes_its_error(self):
         for path, tree in trees():

@@ -1,32 +1,39 @@
-"""Points 2, 3 and 4: what holds for every function."""
+"""Points 2, 3, 4 and 5: what holds for every function."""
 
 from copy import deepcopy
 
 from onesilent.algebra import behind, beside, beside_plan, fewer, folk_behind, wider
 from onesilent.bars import bar, is_bar
 from onesilent.chain import alike_for, chain_at, known, mover
-from onesilent.errors import BadTask, NoChoice, NoFunction, NoInputs, NoLot, NoMachine, NoNumber, NoPattern, NoPlan
-from onesilent.errors import NoOffers, NoRest, NoRow, NoSome, NoWord
+from onesilent.desk import Desk, recovered
+from onesilent.errors import BadTask, BadText, NoBar, NoChoice, NoEvent, NoFunction, NoInputs, NoLine, NoLot, NoMachine
+from onesilent.errors import NoNumber, NoOffers, NoPattern, NoPlan, NoRest, NoRow, NoSome, NoText, NoWord
 from onesilent.families import agreement as family_agreement, few as family_few, leader as family_leader
 from onesilent.families import family_planned, near, unlike
 from onesilent.foes import found_wrong, is_wrong, trials
 from onesilent.folks import Folk, answers, memories, wrong_run
+from onesilent.leading import is_true, led
 from onesilent.lots import parts, way
 from onesilent.making import longest, rounds_enough, told_folk
 from onesilent.mending import greatest, kernel, mended
+from onesilent.nets import Net
 from onesilent.patterns import count_patterns, is_pattern, pattern_at, pattern_number, plain, shut_out
 from onesilent.plans import choices, covers, is_choice, is_plan, plan
 from onesilent.refusals import fewest_rounds, is_refusal, refusal, span
 from onesilent.sure import is_sparing, is_sure_plan, silences, sure_bar, sure_folk, sure_plan
 from onesilent.tasks import Task, completing, inputs_of, lot_of, put_in, rest_of, rests
+from onesilent.texts import bar_text, pattern_text, read_bar, read_pattern, read_task, task_text
 from onesilent.views import by_table, is_table, table, view_of
 from tests.cases import Case
 from tests.samples import agreement, apart, climbing, deep_bar, leader, nested, oddities, silent_folk, wide
+from tests.test_interface import CLASSES, FUNCTIONS
+from tests.test_nets import told_by
 
 ROW = (0, 0, 0)
 LOT = ((0, 0, 0), (0, 0, 1), (1, 1, 1))
 TURN = (None, 0, 0)
 NONE = type(None)
+DRAFT = ("task a 3", "let a 0,0,0 0,0,0", "let a 0,0,0 1,1,1", "let a 0,0,1 0,0,0")
 
 
 def lister():
@@ -60,10 +67,10 @@ def sound_calls():
         (by_table, (1, table(leader(), 1)), Folk), (refusal, (leader(), 1), NONE), (refusal, (barred, 1), tuple),
         (is_refusal, (barred, 1, refusal(barred, 1)), bool), (fewest_rounds, (far, 0), NONE),
         (fewest_rounds, (leader(), 3), int), (span, (far, plan(far)), int),
-    ] + calls_of_stage_4()
+    ] + calls_of_tasks_put_together() + calls_of_nets_and_texts()
 
 
-def calls_of_stage_4():
+def calls_of_tasks_put_together():
     """Calls of the functions of the points 20 to 23."""
     barred, small, some = agreement(3, 2), apart([2, 1]), (0, 2)
     told = sure_plan(barred, some)
@@ -83,6 +90,25 @@ def calls_of_stage_4():
     ]
 
 
+def calls_of_nets_and_texts():
+    """Calls of the functions and methods of the points 24 to 27."""
+    barred, net, desk = agreement(3, 2), Net(lister(), ROW), Desk()
+    for line in DRAFT:
+        desk.tell(line)
+    return [
+        (Net, (lister(), ROW), Net), (net.is_event, (("come", 0),), bool), (net.bag, (), list), (net.up, (), tuple),
+        (net.at, (), tuple), (net.missed, (), tuple), (net.answers, (), tuple), (net.copy, (), Net),
+        (net.copy().settled, (1,), NONE), (net.copy().settled, (None,), NONE),
+        (led, (net, lambda copy: ("again", 1), 5), Net), (led, (net, lambda copy: None, 5), Net),
+        (is_true, (barred, net, (None, 0, None)), bool), (task_text, (barred,), str),
+        (read_task, (task_text(barred),), Task), (pattern_text, ((TURN, TURN),), str),
+        (read_pattern, (3, "- 0 1\n"), tuple), (bar_text, (barred, bar(barred)), str),
+        (read_bar, (barred, bar_text(barred, bar(barred))), tuple), (Desk, (), Desk), (desk.tell, ("show a",), str),
+        (desk.tell, ("can a",), str), (desk.tell, ("parts a 0,0,0",), str), (desk.journal, (), str),
+        (recovered, ("task a 3\nlet a 0,0,0 1,1,1\nundo\n",), tuple),
+    ]
+
+
 def mutes():
     """A task in which machine 2 may not be missed."""
     return Task(3, ((ROW, (ROW,)), ((0, 0, 1), ((1, 1, 1),))))
@@ -98,6 +124,10 @@ def same(one, other):
         return same(list(one.items()), list(other.items()))
     if isinstance(one, Folk):
         return same([one.rounds, tried(one)], [other.rounds, tried(other)])
+    if isinstance(one, Net):
+        return same(told_by(one), told_by(other))
+    if isinstance(one, Desk):
+        return one.journal() == other.journal()
     return one == other
 
 
@@ -109,7 +139,8 @@ def tried(folk):
 
 def held_by(arguments):
     """The arguments, with what tasks among them hold."""
-    return [vars(each) if isinstance(each, Task) else None if isinstance(each, Folk) else each for each in arguments]
+    return [vars(each) if isinstance(each, Task) else told_by(each) if isinstance(each, Net) else
+            None if isinstance(each, Folk) or callable(each) else each for each in arguments]
 
 
 def containers(thing):
@@ -147,6 +178,13 @@ class Results(Case):
         for function, arguments, kind in sound_calls():
             self.assertIs(type(function(*arguments)), kind, function.__name__)
 
+    def test_each_function_and_class_is_called_here(self):
+        # So that what holds for every function is tested over all files of the package.
+        called = {function.__name__ for function, _, _ in sound_calls()}
+        listed = {name for names in FUNCTIONS.values() for name in names}
+        listed |= {name for names in CLASSES.values() for name in names} - {"Task", "Folk"}
+        self.assertEqual(listed - called, set())
+
     def test_what_is_listed_is_of_tuples_of_integers(self):
         task = agreement(4, 2)
         for listed in (inputs_of(task), choices(apart([2, 2])), covers(leader(), (0,), (0, (0, 0))), parts(LOT)[0]):
@@ -183,6 +221,11 @@ class Arguments(Case):
             is_sparing((0, 1), (thing,))
             is_sure_plan(task, (0,), thing)
             is_sure_plan(task, (0,), {(0, (k, k)): thing for k in range(3)})
+            net = Net(silent_folk(), ROW)
+            net.is_event(thing)
+            net.is_event(("come", thing))
+            is_true(leader(), net, thing)
+            is_true(leader(), net, (thing, thing, thing))
             for function in (parts, lambda value: lot_of(task, value), lambda value: covers(task, value, value)):
                 with self.assertRaises(ValueError):
                     function(thing)
@@ -211,6 +254,7 @@ class Arguments(Case):
 class ManyErrors(Case):
     def test_each_argument_is_checked_whole_ahead_of_the_next_one(self):
         folk, task = silent_folk(), apart([2, 1, 3])
+        net = Net(folk, ROW)
         wrongs = (None, True, [], {}, "", 1.0, (7,), BadTask("many"), leader(), folk, nested(30, lambda thing: [thing]))
         for one in wrongs:
             for other in wrongs:
@@ -248,9 +292,21 @@ class ManyErrors(Case):
                     (family_planned, (one, other, other, other), NoWord),
                     (family_planned, ("few", one, other, other), NoNumber),
                     (family_planned, ("few", 3, one, other), NoNumber),
-                    (family_planned, ("few", 3, 3, one), NoNumber),
+                    (family_planned, ("few", 3, 3, one), NoNumber), (Net, (folk, one), NoRow),
+                    (net.event, (one,), NoEvent), (net.event, (("fall", one),), NoEvent),
+                    (led, (net, lambda copy: None, one), NoNumber), (led, (net, lambda copy: "x", one), NoNumber),
+                    (is_true, (task, Net(folk, (7, 7, 7)), one), NoInputs), (pattern_text, (one,), NoPattern),
+                    (read_pattern, (one, other), NoNumber), (bar_text, (task, one), NoBar),
+                    (Desk().tell, (one,), NoLine),
                 ):
                     self.fails(kind, function, *arguments)
+                if one is not None:
+                    self.fails(NoMachine, net.settled, one)
+                if not isinstance(one, str):
+                    self.fails(NoText, recovered, one)
+                    self.assertEqual(self.fails(BadText, read_task, one).line, 0)
+                    self.assertEqual(self.fails(BadText, read_pattern, 3, one).line, 0)
+                    self.assertEqual(self.fails(BadText, read_bar, task, one).line, 0)
                 if one is None or isinstance(one, (bool, str, list, dict, tuple)):
                     self.assertEqual(self.fails(NoFunction, Folk, 1, one, other, other).index, 1)
 
@@ -286,6 +342,18 @@ class Depths(Case):
         for thing in (deep_bar(100), deep_bar(800), nested(30, lambda thing: ({0: [thing]},))):
             for inner in (thing, (thing,), ((0, 0, 0), thing), (thing, thing, thing), (0, thing), (0, (0, thing))):
                 self.assertIs(is_choice(task, inner), False)
+                net = Net(silent_folk(), ROW)
+                self.assertIs(net.is_event(inner), False)
+                self.fails(NoEvent, net.event, inner)
+                self.fails(NoMachine, net.settled, inner)
+                self.assertIs(is_true(leader(), net, inner), False)
+                self.assertIs(is_sparing((0,), inner), False)
+                self.fails(NoSome, fewer, task, inner)
+                self.fails(NoOffers, wider, task, inner)
+                self.fails(NoPattern, pattern_text, inner)
+                self.fails(NoBar, bar_text, task, inner)
+                self.fails(NoLine, Desk().tell, inner)
+                self.fails(NoText, recovered, inner)
                 self.assertIs(is_plan(task, inner), False)
                 self.assertIs(is_plan(task, ((0, 0, 0), {rest: inner for rest in rests(task)})), False)
                 self.fails(NoLot, parts, inner)

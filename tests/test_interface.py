@@ -1,4 +1,4 @@
-"""Point 28: the interface, as far as it has landed."""
+"""Point 28: the interface."""
 
 from importlib import import_module
 from inspect import isclass, isfunction, signature
@@ -48,17 +48,29 @@ FUNCTIONS = {
     },
     "algebra": {
         "beside": ["one", "other"], "behind": ["one", "other"], "fewer": ["task", "inputs"],
-        "wider": ["task", "offers"], "beside_plan": ["one", "other", "first", "later"], "folk_behind": ["first", "later"],
+        "wider": ["task", "offers"], "beside_plan": ["one", "other", "first", "later"],
+        "folk_behind": ["first", "later"],
     },
     "mending": {"kernel": ["task"], "mended": ["task", "offers"], "greatest": ["task"]},
     "families": {
         "agreement": ["many", "values"], "few": ["many", "values", "most"], "near": ["many", "values"],
         "leader": ["many"], "unlike": ["many", "names"], "family_planned": ["word", "many", "number", "most"],
     },
+    "leading": {"led": ["net", "stranger", "most"], "is_true": ["task", "net", "thing"]},
+    "texts": {
+        "task_text": ["task"], "pattern_text": ["pattern"], "bar_text": ["task", "bar"], "read_task": ["text"],
+        "read_pattern": ["many", "text"], "read_bar": ["task", "text"],
+    },
+    "desk": {"recovered": ["text"]},
 }
 CLASSES = {
-    "tasks": {"Task": (["many", "lots"], ["__eq__"])},
-    "folks": {"Folk": (["rounds", "begin", "step", "answer"], ["__init__"])},
+    "tasks": {"Task": (["many", "lots"], {"__eq__": ["self", "other"]})},
+    "folks": {"Folk": (["rounds", "begin", "step", "answer"], {})},
+    "nets": {"Net": (["folk", "inputs"], {
+        "is_event": ["self", "thing"], "event": ["self", "event"], "bag": ["self"], "up": ["self"], "at": ["self"],
+        "missed": ["self"], "answers": ["self"], "copy": ["self"], "settled": ["self", "silent"],
+    })},
+    "desk": {"Desk": ([], {"tell": ["self", "line"], "journal": ["self"]})},
 }
 
 
@@ -80,8 +92,16 @@ class Interface(TestCase):
                 self.assertTrue(isclass(made), name)
                 self.assertEqual(made.__module__, "onesilent." + file)
                 self.assertEqual(list(signature(made).parameters), names)
-                for method in methods:
-                    self.assertIn(method, vars(made))
+                for method, parameters in methods.items():
+                    self.assertTrue(isfunction(vars(made)[method]), method)
+                    self.assertEqual(list(signature(vars(made)[method]).parameters), parameters)
+
+    def test_nothing_needs_an_argument_that_is_not_listed(self):
+        for file, functions in FUNCTIONS.items():
+            for name in functions:
+                for parameter in signature(getattr(import_module("onesilent." + file), name)).parameters.values():
+                    self.assertIs(parameter.kind, parameter.POSITIONAL_OR_KEYWORD)
+                    self.assertIs(parameter.default, parameter.empty)
 
     def test_errors_stand_in_their_file(self):
         module = import_module("onesilent.errors")
