@@ -50,7 +50,7 @@ class Net:
         elif word == "fall":
             self.posts[number].fall()
         elif word == "rise":
-            self.posts[number].works = True
+            self.posts[number].rise()
         else:
             for at in range(self.posts[number].rounds_done() + 1):
                 self._write(number, at)
@@ -201,6 +201,10 @@ class Post:
         """Be down, with nothing but the notes."""
         self.works = False
         self.kept = {}
+
+    def rise(self):
+        """Be up again."""
+        self.works = True
 
     def twin(self):
         """Tell a post like this one."""

@@ -145,6 +145,28 @@ class Form(TestCase):
                 self.assertEqual(given & NO_ATTRIBUTES, set(), path.name)
                 self.assertEqual(given & {node.name for node in functions_of(made)}, set(), path.name)
 
+    def test_attributes_are_assigned_through_names(self):
+        for path, tree in trees():
+            for node in ast.walk(tree):
+                if isinstance(node, ast.Attribute) and isinstance(node.ctx, ast.Store):
+                    self.assertIsInstance(node.value, ast.Name, f"{path.name}:{node.lineno}")
+
+    def test_no_percent_sign_and_no_power(self):
+        for path, tree in trees():
+            self.assertNotIn("%", path.read_text("utf-8"), path.name)
+            for node in ast.walk(tree):
+                self.assertNotIsInstance(node, (ast.Pow, ast.Mod), path.name)
+
+    def test_what_is_chosen_of_many_is_iterated_at_once(self):
+        for path, tree in trees():
+            spots = [node.iter for node in ast.walk(tree) if isinstance(node, (ast.For, ast.comprehension))]
+            spots += [each for node in ast.walk(tree) if isinstance(node, ast.Call) and isinstance(node.func, ast.Name)
+                      and node.func.id == "list" for each in node.args]
+            calls = [node for node in ast.walk(tree) if isinstance(node, ast.Call) and isinstance(node.func, ast.Name)]
+            for node in calls:
+                if node.func.id in LIBRARY["itertools"]:
+                    self.assertIn(node, spots, f"{path.name}:{node.lineno}")
+
     def test_type_is_asked_for_in_comparisons_alone(self):
         for path, tree in trees():
             sides = [node.left for node in ast.walk(tree) if isinstance(node, ast.Compare)]

@@ -78,6 +78,8 @@ class TaskTexts(Case):
     def test_lines_that_stand_where_they_cannot(self):
         self.check_line("for 0 0 0\nlet 0 0 0\n", 1)
         self.check_line("let 0 0 0\n", 1)
+        self.check_line("for\n", 1)
+        self.check_line("let\n", 1)
         self.check_line("machines 3\nlet 0 0 0\n", 2)
         self.check_line("machines 3\nmachines 3\n", 2)
         self.check_line("machines 3\nfor 0 0 0\nmachines 3\n", 3)
